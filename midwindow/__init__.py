@@ -1,0 +1,1 @@
+"""Midwindow: the so-manieth number of a window that slides over cells."""

@@ -58,6 +58,29 @@ def names_given():
     return given
 
 
+def methods_and_values():
+    methods, values = set(), set()
+    for path, node in nodes():
+        if isinstance(node, ast.ClassDef):
+            methods.update(part.name for part in node.body if isinstance(part, ast.FunctionDef))
+        elif isinstance(node, ast.Attribute) and isinstance(node.ctx, ast.Store):
+            values.add(node.attr)
+    return methods, values
+
+
+def module_of(path):
+    return ".".join(path.relative_to(PACKAGE.parent).with_suffix("").parts)
+
+
+def imports():
+    """For each module: each name that it imports, and from where."""
+    drawn = {module_of(path): {} for path in files()}
+    for path, node in nodes():
+        if isinstance(node, ast.ImportFrom):
+            drawn[module_of(path)].update({alias.name: node.module for alias in node.names})
+    return drawn
+
+
 class Form(unittest.TestCase):
     def refuse(self, path, node, why):
         line = getattr(node, "lineno", 0)
@@ -116,6 +139,37 @@ class Form(unittest.TestCase):
             if isinstance(node, ast.ImportFrom):
                 if node.level or node.module.split(".")[0] != "midwindow" or node.names[0].name == "*":
                     self.refuse(path, node, "an import that is not the package's own by its full name")
+
+    def test_imports_are_from_the_file_that_defines_the_name(self):
+        for module, names in imports().items():
+            for name, source in names.items():
+                path = PACKAGE.parent.joinpath(*source.split(".")).with_suffix(".py")
+                defined = [getattr(node, "name", None) for node in ast.parse(path.read_text(encoding="utf-8")).body]
+                with self.subTest(module=module, name=name):
+                    self.assertIn(name, defined)
+
+    def test_imports_go_round_nowhere(self):
+        left = {module: set(names.values()) for module, names in imports().items()}
+        while left:
+            free = [module for module, sources in left.items() if not sources & set(left)]
+            self.assertTrue(free, f"these draw from one another: {sorted(left)}")
+            for module in free:
+                left.pop(module)
+
+    def test_no_parameter_and_no_local_is_called_like_an_import(self):
+        drawn = imports()
+        for path, node in nodes():
+            name = None
+            if isinstance(node, ast.arg):
+                name = node.arg
+            elif isinstance(node, ast.Name) and isinstance(node.ctx, ast.Store):
+                name = node.id
+            if name in drawn[module_of(path)]:
+                self.refuse(path, node, f"{name} is imported here")
+
+    def test_no_name_is_a_method_and_a_value(self):
+        methods, values = methods_and_values()
+        self.assertEqual(methods & values, set())
 
     def test_names_given(self):
         for name in names_given() - {"__init__"}:

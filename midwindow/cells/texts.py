@@ -29,9 +29,9 @@ def cell_shown(cell):
     return HOLE if cell is None else str(cell)
 
 
-def read_field(text):
+def read_rows(lines):
     rows = []
-    for row, line in enumerate(text.split("\n")):
+    for row, line in enumerate(lines):
         # An empty line gives one empty word, and so do doubled blanks: that is no cell.
         words = line.split(" ")
         if not all([is_cell(word) for word in words]):
@@ -40,6 +40,10 @@ def read_field(text):
             raise NoField(row)
         rows.append(tuple([cell_read(word) for word in words]))
     return tuple(rows)
+
+
+def read_field(text):
+    return read_rows(text.split("\n"))
 
 
 def row_shown(row):

@@ -17,12 +17,15 @@ def without_holes(cells):
     return tuple([cell for cell in cells if cell is not None])
 
 
+def told_of_cells(cells, share):
+    return so_manieth(without_holes(cells), share)
+
+
 def filtered(field, window, rule, share):
     rows = []
     for i in range(len(field)):
         row = []
         for j in range(len(field[i])):
-            numbers = without_holes(window_cells(field, window, rule, i, j))
-            row.append(so_manieth(numbers, share))
+            row.append(told_of_cells(window_cells(field, window, rule, i, j), share))
         rows.append(tuple(row))
     return tuple(rows)
